@@ -1,0 +1,1 @@
+"""Riverdue: a river's water dealt by the age of rights."""
