@@ -2,6 +2,7 @@
 
 import ast
 import builtins
+import functools
 import pathlib
 import re
 import unittest
@@ -34,6 +35,7 @@ METHODS = """
 TWO_UNDERSCORES = ("__init__", "__eq__", "__repr__", "__str__", "__len__")
 
 
+@functools.cache
 def tree(path):
     return ast.parse(path.read_text(encoding="utf-8"))
 
@@ -42,10 +44,12 @@ def nodes(kinds):
     return [(path, node) for path in FILES for node in ast.walk(tree(path)) if isinstance(node, kinds)]
 
 
+@functools.cache
 def own_methods():
     return {part.name for path, node in nodes(ast.ClassDef) for part in node.body if isinstance(part, ast.FunctionDef)}
 
 
+@functools.cache
 def own_values():
     return {node.attr for path, node in nodes(ast.Attribute) if isinstance(node.ctx, ast.Store)}
 
@@ -56,6 +60,32 @@ def bound_names():
     found |= {node.id for path, node in nodes(ast.Name) if isinstance(node.ctx, ast.Store)}
     found |= {node.name for path, node in nodes(ast.alias)}
     return found | {node.name for path, node in nodes(ast.ExceptHandler) if node.name}
+
+
+def drawn_from(path):
+    """The files of the package that a file imports from, in however many steps."""
+    found = []
+    waiting = [path]
+    while waiting:
+        for part in tree(waiting.pop()).body:
+            if isinstance(part, ast.ImportFrom):
+                drawn = PACKAGE / f"{part.module.split('.')[1]}.py"
+                if drawn not in found:
+                    found.append(drawn)
+                    waiting.append(drawn)
+    return found
+
+
+def parameters_and_locals(path):
+    for part in ast.walk(tree(path)):
+        if isinstance(part, (ast.FunctionDef, ast.Lambda)):
+            for inner in ast.walk(part):
+                if isinstance(inner, ast.arg):
+                    yield inner.arg
+                if isinstance(inner, ast.Name) and isinstance(inner.ctx, ast.Store):
+                    yield inner.id
+                if isinstance(inner, ast.ExceptHandler) and inner.name:
+                    yield inner.name
 
 
 def defined_at_top(path):
@@ -99,6 +129,16 @@ class FormTest(unittest.TestCase):
             self.assertRegex(node.module, r"^riverdue\.[a-z_]+$")
             for alias in node.names:
                 self.assertIn(alias.name, defined_at_top(PACKAGE / f"{node.module.split('.')[1]}.py"))
+
+    def test_no_file_draws_from_itself(self):
+        for path in FILES:
+            self.assertNotIn(path, drawn_from(path))
+
+    def test_no_local_is_called_like_a_class_or_an_import(self):
+        for path in FILES:
+            rows = [part for part in tree(path).body if isinstance(part, ast.ImportFrom)]
+            known = {alias.name for row in rows for alias in row.names} | set(defined_at_top(path))
+            self.assertEqual(sorted(known & set(parameters_and_locals(path))), [], path.name)
 
     def test_functions(self):
         for path, node in nodes(ast.FunctionDef):

@@ -3,7 +3,7 @@ import itertools
 from riverdue.errors import NoPoint, NoRight, Taken, TooMuch, Unlike
 from riverdue.rights import Book
 from riverdue.river import River
-from tests.helper import BRANCHED, MANY_FIGURES, RefusalCase, no_points, told
+from tests.helper import BRANCHED, MANY_FIGURES, BookCase, no_points, told_rights
 
 
 def sample_book():
@@ -14,13 +14,6 @@ def sample_book():
     book.grant("ford", 3, 50, 1901)
     book.grant("weir", 4, 50, 1900)
     return book
-
-
-class BookCase(RefusalCase):
-    def assert_refused_unchanged(self, refusal, book, deed, *args):
-        before = told(book)
-        self.assert_refused(refusal, deed, *args)
-        self.assertEqual(told(book), before)
 
 
 class BookTest(BookCase):
@@ -41,7 +34,7 @@ class BookTest(BookCase):
         book = Book(River(BRANCHED))
         book.grant("a", 0, 0, 0)
         book.grant("zzzzzzzz", 6, 1000000, 9999)
-        self.assertEqual(told(book), [("a", (0, 0, 0)), ("zzzzzzzz", (6, 1000000, 9999))])
+        self.assertEqual(told_rights(book), [("a", (0, 0, 0)), ("zzzzzzzz", (6, 1000000, 9999))])
 
     def test_forty_rights(self):
         book = Book(River([None]))
@@ -82,7 +75,7 @@ class BookTest(BookCase):
         names[0] = "other"
         self.assertEqual(book.names(), ["town", "farm", "mill", "weir", "ford"])
         names.clear()
-        self.assertEqual(len(told(book)), 5)
+        self.assertEqual(len(told_rights(book)), 5)
 
     def test_deeds_change_no_list_told_before(self):
         book = sample_book()
@@ -99,9 +92,9 @@ class BookTest(BookCase):
         self.assert_refused(NoRight, second.right, "mill")
         self.assertEqual(second.grant("mill", 4, 60, 1800), 1)
         self.assertEqual(second.part("mill", "farm", 20), 2)
-        self.assertEqual(told(first), [("mill", (3, 50, 1900))])
+        self.assertEqual(told_rights(first), [("mill", (3, 50, 1900))])
         self.assertEqual(first.drop("mill"), 0)
-        self.assertEqual(told(second), [("farm", (4, 20, 1800)), ("mill", (4, 40, 1800))])
+        self.assertEqual(told_rights(second), [("farm", (4, 20, 1800)), ("mill", (4, 40, 1800))])
 
     def test_deeds_leave_the_river_as_it_was(self):
         book = sample_book()
@@ -119,10 +112,10 @@ class GrantAndDropTest(BookCase):
         self.assertEqual(book.grant("farm", 3, 70, 1900), 2)
         self.assertEqual(book.grant("town", 0, 0, 1850), 3)
         self.assertEqual(book.drop("farm"), 2)
-        self.assertEqual(told(book), [("town", (0, 0, 1850)), ("mill", (3, 50, 1900))])
+        self.assertEqual(told_rights(book), [("town", (0, 0, 1850)), ("mill", (3, 50, 1900))])
         self.assertEqual(book.drop("town"), 1)
         self.assertEqual(book.drop("mill"), 0)
-        self.assertEqual(told(book), [])
+        self.assertEqual(told_rights(book), [])
 
     def test_granting_at_each_point(self):
         book = Book(River(BRANCHED))
@@ -193,7 +186,7 @@ class PartTest(BookCase):
         book = Book(River([None]))
         book.grant("a", 0, 0, 1)
         self.assertEqual(book.part("a", "b", 0), 2)
-        self.assertEqual(told(book), [("a", (0, 0, 1)), ("b", (0, 0, 1))])
+        self.assertEqual(told_rights(book), [("a", (0, 0, 1)), ("b", (0, 0, 1))])
         self.assert_refused_unchanged(TooMuch, book, book.part, "a", "c", 1)
 
     def test_a_part_is_a_right_of_its_own(self):
@@ -254,10 +247,10 @@ class UniteTest(BookCase):
 
     def test_parting_and_uniting_again(self):
         book = sample_book()
-        before = told(book)
+        before = told_rights(book)
         book.part("farm", "barn", 30)
         self.assertEqual(book.unite("farm", "barn"), 5)
-        self.assertEqual(told(book), before)
+        self.assertEqual(told_rights(book), before)
 
     def test_amounts_up_to_the_bound(self):
         for first, second in ((400000, 600000), (1000000, 0), (0, 1000000), (0, 0), (999999, 1)):
@@ -265,7 +258,7 @@ class UniteTest(BookCase):
             book.grant("a", 0, first, 5)
             book.grant("b", 0, second, 5)
             self.assertEqual(book.unite("b", "a"), 1)
-            self.assertEqual(told(book), [("b", (0, first + second, 5))])
+            self.assertEqual(told_rights(book), [("b", (0, first + second, 5))])
 
     def test_amounts_beyond_the_bound(self):
         for first, second in ((400000, 600001), (1000000, 1), (1, 1000000), (1000000, 1000000)):
@@ -310,7 +303,7 @@ class BeyondTheBoundsTest(BookCase):
         book = Book(River([None]))
         self.assertEqual(book.grant("abcdefghi", 0, 1000001, 10000), 1)
         self.assertEqual(book.grant("", 0, 1, 10000), 2)
-        self.assertEqual(told(book), [("", (0, 1, 10000)), ("abcdefghi", (0, 1000001, 10000))])
+        self.assertEqual(told_rights(book), [("", (0, 1, 10000)), ("abcdefghi", (0, 1000001, 10000))])
         self.assertEqual(book.part("abcdefghi", "b", 1000001), 3)
         self.assertEqual(book.right("b"), (0, 1000001, 10000))
 

@@ -1,6 +1,15 @@
 from riverdue.errors import BadRiver, BadYear, NoPoint
 from riverdue.river import River, flows
-from tests.helper import BRANCHED, CHAIN, STAR, RefusalCase, all_small_rivers, no_points
+from tests.helper import (
+    BRANCHED,
+    CHAIN,
+    STAR,
+    RefusalCase,
+    above_by_words,
+    all_small_rivers,
+    no_points,
+    way_by_words,
+)
 
 
 def chain_of(count):
@@ -9,16 +18,6 @@ def chain_of(count):
 
 def star_of(count):
     return [None] + [0] * (count - 1)
-
-
-def way_by_words(below, point):
-    if point is None:
-        return []
-    return [point] + way_by_words(below, below[point])
-
-
-def above_by_words(below, point):
-    return [other for other in range(len(below)) if point in way_by_words(below, other)]
 
 
 class MakingTest(RefusalCase):
